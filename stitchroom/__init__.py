@@ -1,0 +1,1 @@
+"""Stitchroom: knitted cloth told by text, counted, worked and held."""
