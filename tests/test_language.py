@@ -1,4 +1,7 @@
-"""The package keeps to ../shared/LANGUAGE.md: what of its rules can be seen in the written form of the files."""
+"""The package keeps to ../shared/LANGUAGE.md: a part of its rules, looked at in the written form of the files.
+
+Not looked at: L11, L13, L22, L23, L28, and of L19 which calls may stand in a try.
+"""
 
 import ast
 import builtins
