@@ -3,6 +3,11 @@
 from stitchroom.errors import NoSum
 
 SIZES = ("a", "b", "c", "d")
+NOUGHT = (0, 0, 0, 0, 0)
+
+
+def plain_sum(number):
+    return (number, 0, 0, 0, 0)
 
 
 def total(one, other):

@@ -1,5 +1,17 @@
-"""What several test files need: all stitches of point 5, one by one, and patterns with their texts."""
+"""What several test files need: all stitches of point 5, one by one, patterns with their texts, drawn patterns, and a
+working of patterns in plain numbers that is written apart from the program.
+"""
 
+import collections
+import contextlib
+import itertools
+import random
+import re
+import signal
+
+from stitchroom.errors import NoPattern
+from stitchroom.patterns import Pattern
+from stitchroom.reader import read
 from stitchroom.stitches import Cross, Fetch, Grow, Keep, Lean, Off, Over, Plain, Slip, Stitch
 
 SIDES = (1, -1)
@@ -102,3 +114,347 @@ def told_patterns():
         ("round", plain(1), [("row", ones(*all_marks()), False)],
          "round; cast 1; row " + ", ".join(all_marks())),
     ]
+
+
+@contextlib.contextmanager
+def at_once():
+    """What is done within must be done in some seconds, where it could also go on for years."""
+    def late(number, frame):
+        raise AssertionError("this is not told at once")
+    before = signal.signal(signal.SIGALRM, late)
+    signal.alarm(20)
+    try:
+        yield
+    finally:
+        signal.alarm(0)
+        signal.signal(signal.SIGALRM, before)
+
+
+def number_of(one, choice):
+    """What a sum comes to at a choice."""
+    return one[0] + one[1] * choice[0] + one[2] * choice[1] + one[3] * choice[2] + one[4] * choice[3]
+
+
+def taken_by(mark):
+    if mark[0] in "of":
+        return 0
+    if mark[0] in "cq":
+        return int(mark[1]) + int(mark[3])
+    return int(mark[1]) if mark[-1] in "rl" else 1
+
+
+def given_by(mark):
+    if mark[0] in "bh":
+        return 0
+    if mark[0] in "cq":
+        return int(mark[1]) + int(mark[3])
+    return int(mark[2]) if mark[1:2] == "x" and mark[0] in "kp" else 1
+
+
+def tally(parts, choice, often, found):
+    """Adds to found what the parts, worked so often, take and give at a choice, and what each hw, fw .. of it does."""
+    for part in parts:
+        if part[0] == "one":
+            mark = part[1].mark()
+            found["takes"] += often * taken_by(mark)
+            found["gives"] += often * given_by(mark)
+            if mark[0] in "hf":
+                found[mark] += often
+        else:
+            tally(part[2], choice, often * number_of(part[1], choice), found)
+
+
+def marks_of(parts, choice):
+    """The marks of all stitches of the parts at a choice, one by one."""
+    marks = []
+    for part in parts:
+        if part[0] == "one":
+            marks.append(part[1].mark())
+        else:
+            for turn in range(number_of(part[1], choice)):
+                marks.extend(marks_of(part[2], choice))
+    return marks
+
+
+class Unfit(Exception):
+    """The work by numbers does not go on: at a row and place just these two numbers stand against each other."""
+
+
+class Curved(Exception):
+    """A product is no sum: sizes are multiplied in it."""
+
+
+def polynomial(one):
+    return collections.Counter({"": one[0], "a": one[1], "b": one[2], "c": one[3], "d": one[4]})
+
+
+def polynomials(parts):
+    """From takes, gives and each hw, fw .. that stands in the parts to its count, as a polynomial of the sizes."""
+    found = collections.defaultdict(collections.Counter)
+    for part in parts:
+        if part[0] == "one":
+            mark = part[1].mark()
+            found["takes"][""] += taken_by(mark)
+            found["gives"][""] += given_by(mark)
+            if mark[0] in "hf":
+                found[mark][""] += 1
+            continue
+        for what, count in polynomials(part[2]).items():
+            for (letters, number), (other, often) in itertools.product(count.items(), polynomial(part[1]).items()):
+                if number * often and len(letters + other) > 1:
+                    raise Curved()
+                found[what][letters + other] += number * often
+    return found
+
+
+def sum_of_polynomial(count):
+    return tuple(count[letters] for letters in ("", "a", "b", "c", "d"))
+
+
+class NumberWork:
+    """Point 14 with numbers in the place of sums, at a choice: told is (row, in hand, on the other needle) for each row
+    that went well, as they were ahead of it; fault is (row, place, lies, asked), or None. Where each block is worked
+    really, as often as its sum is worth, works is (row, marks, turn) for each row.
+    """
+
+    def __init__(self, pattern, choice, really=False):
+        self.way, self.choice, self.really = pattern.way, choice, really
+        self.hand, self.other = number_of(pattern.cast, choice), 0
+        self.kept = dict.fromkeys(KEEPERS, 0)
+        self.told, self.works, self.fault = [], [], None
+        numbers = itertools.count()
+        plan = self.numbered(pattern.things, numbers)
+        try:
+            self.go(plan)
+            if self.hand + self.other > 0:
+                raise Unfit(next(numbers), "end", self.hand + self.other, 0)
+        except Unfit as unfit:
+            self.fault = unfit.args
+
+    def numbered(self, items, numbers):
+        return [
+            (next(numbers), item) if item[0] == "row" else (item[1], self.numbered(item[2], numbers)) for item in items
+        ]
+
+    def go(self, plan):
+        for first, second in plan:
+            if isinstance(first, int):
+                self.row(first, second)
+            elif self.really or not any(first[1:]):
+                for turn in range(number_of(first, self.choice)):
+                    self.go(second)
+            else:
+                ahead = self.piles()
+                self.go(second)
+                while not isinstance(second[0][0], int):
+                    second = second[0][1]
+                for lies, asked in zip(self.piles(), ahead):
+                    if lies != asked:
+                        raise Unfit(second[0][0], "block", lies, asked)
+
+    def piles(self):
+        return [self.hand, self.other] + [self.kept[keeper] for keeper in KEEPERS]
+
+    def row(self, number, row):
+        found = collections.Counter()
+        tally(row[1] + (row[4] if len(row) == 5 else []), self.choice, 1, found)
+        takes, often = found["takes"], 0
+        if len(row) == 5:
+            rest = collections.Counter()
+            tally(row[3], self.choice, 1, rest)
+            often, beyond = divmod(self.hand - takes, rest["takes"])
+            fits = often >= 0 and beyond == 0
+            tally(row[3], self.choice, often, found)
+        else:
+            fits = takes <= self.hand if row[2] else takes == self.hand
+        if not fits:
+            raise Unfit(number, "needle", self.hand, takes)
+        self.keepers(number, found)
+        self.told.append((number, self.hand, self.other))
+        if self.really:
+            middle = marks_of(row[3], self.choice) * often + marks_of(row[4], self.choice) if len(row) == 5 else []
+            self.works.append((number, marks_of(row[1], self.choice) + middle, row[2]))
+        left = self.hand - found["takes"]
+        if self.way == "flat":
+            self.hand, self.other = self.other + found["gives"], left
+        else:
+            self.hand = found["gives"]
+
+    def keepers(self, number, found):
+        for keeper in KEEPERS:
+            put, fetched = found["h" + keeper], found["f" + keeper]
+            if (put or fetched) and fetched != self.kept[keeper]:
+                raise Unfit(number, keeper, self.kept[keeper], fetched)
+        for keeper in KEEPERS:
+            if found["h" + keeper] or found["f" + keeper]:
+                self.kept[keeper] = found["h" + keeper]
+
+
+UNITS = [[0, 0, 0, 0], [1, 0, 0, 0], [0, 1, 0, 0], [0, 0, 1, 0], [0, 0, 0, 1]]
+
+
+def sum_of(numbers):
+    """The sum that comes to these numbers at no size and where one size is 1 and the others are 0."""
+    return (numbers[0],) + tuple(max(number - numbers[0], 0) for number in numbers[1:])
+
+
+class Drawn:
+    """Draws patterns that go well for the most part. What lies behind the rows so far is found by working them."""
+
+    # What takes 1, 2 or 3 loops and gives as many, and what gives others.
+    STEADY = {1: (["k"], ["p"], ["s"]), 2: (["c1f1"], ["k2r", "o"], ["p", "k"], ["kx2", "b"]),
+              3: (["q1b2"], ["k2l", "px2"], ["k3r", "o", "o"], ["s", "c1b1"])}
+    UNSTEADY = {1: (["kx2"], ["b"], ["o", "k"], ["px4"]), 2: (["p2r"], ["k", "b"], ["kx3", "s"]),
+                3: (["k3l"], ["kx2", "p2l"], ["c2f1", "o"], ["b", "b", "b"])}
+
+    def __init__(self, seed):
+        self.draw = random.Random(seed)
+        self.text = ""
+
+    def chance(self, many):
+        return self.draw.randrange(many) == 0
+
+    def pick(self, some):
+        return self.draw.choice(some)
+
+    def sum(self):
+        great = self.pick((3, 3, 7, 7, 7, 10 ** 17))
+        sized = [self.draw.randrange(great) if self.chance(2) else 0 for size in "abcd"]
+        return tuple([self.draw.randrange(great)] + sized)
+
+    def piles(self):
+        """The sums on both needles and the keepers behind the rows so far."""
+        works = [NumberWork(self.pattern(), choice) for choice in UNITS]
+        return [sum_of(numbers) for numbers in zip(*[work.piles() for work in works])]
+
+    def pattern(self):
+        return Pattern(self.way, self.cast, self.top)
+
+    def whole(self):
+        """A pattern: some rows and blocks, and at the end, mostly, rows that cast off what lies."""
+        self.way, self.cast, self.top = self.pick(("flat", "round")), self.sum(), []
+        for turn in range(self.draw.randrange(1, 5)):
+            drawn = self.block() if self.chance(3) else [self.row(False)]
+            self.top.extend(drawn)
+        for turn in range(0 if self.chance(8) else 2):
+            self.top.append(("row", [], False, ones("b"), []))
+        return self.pattern() if self.top else self.whole()
+
+    def block(self):
+        """A block of rows that leave what lay ahead of them, mostly; the rows stand at the top while it is drawn."""
+        start = len(self.top)
+        steady = not self.chance(6)
+        for turn in range(self.draw.randrange(1, 4)):
+            if self.chance(5):
+                drawn = self.block()
+            elif steady and self.chance(3):
+                drawn = self.keeping()
+            elif steady and self.way == "flat" and self.chance(3):
+                drawn = self.turning()
+            else:
+                drawn = [self.row(steady)]
+            self.top.extend(drawn)
+        body, self.top = self.top[start:], self.top[:start]
+        return [("block", self.pick((plain(1), plain(2), plain(3), (1, 1, 0, 0, 0), (2, 0, 3, 0, 1))), body)]
+
+    def keeping(self):
+        """Two rows, of which the first puts loops on a keeper and the second fetches them."""
+        keeper, put = self.pick(KEEPERS), self.below(self.piles()[0])
+        return [("row", [("times", put, ones("h" + keeper))], False, ones("k"), []),
+                ("row", [("times", put, ones("f" + keeper))], False, ones("p"), [])]
+
+    def turning(self):
+        """A row that turns early, and one back over what it gave."""
+        parts = self.worked(self.below(self.piles()[0]), self.STEADY)
+        return [("row", parts or [("times", NOUGHT, ones("k"))], True), ("row", [], False, ones("s"), [])]
+
+    def below(self, one):
+        return tuple(self.draw.randrange(number + 1) if self.chance(2) else number for number in one)
+
+    def row(self, steady):
+        piles = self.piles()
+        kinds = self.STEADY if steady or self.chance(2) else self.UNSTEADY
+        turn = self.way == "flat" and not steady and self.chance(4)
+        takes = self.below(piles[0]) if turn else piles[0]
+        fetches = [] if steady else self.fetches(piles[2:])
+        keeps = [] if steady or self.chance(2) else [self.pick(KEEPERS)]
+        if turn or self.chance(2):
+            parts = fetches + self.kept_parts(keeps, takes, kinds)
+            return ("row", parts or [("times", NOUGHT, ones("k"))], turn)
+        many = self.pick((1, 1, 2, 3))
+        once = tuple(number % many + many * self.draw.randrange(min(3, number // many + 1)) for number in takes)
+        rest = ones(*self.pick(kinds[many]))
+        if keeps and self.chance(3):
+            rest, keeps = ones(*["h" + keeps[0]] * many), []
+        more = self.below(once)
+        parts = tuple(number - less for number, less in zip(once, more))
+        return ("row", fetches + self.kept_parts(keeps, parts, kinds), False, rest, self.worked(more, kinds))
+
+    def fetches(self, kept):
+        """Parts that fetch all from some keepers, for each that has something more often."""
+        parts = []
+        for keeper, lies in zip(KEEPERS, kept):
+            if self.chance(2 if any(lies) else 12):
+                parts.append(("times", lies, ones("f" + keeper)))
+        return parts
+
+    def kept_parts(self, keeps, takes, kinds):
+        parts = []
+        for keeper in keeps:
+            put = self.below(takes)
+            takes = tuple(number - less for number, less in zip(takes, put))
+            parts.append(("times", put, ones("h" + keeper)))
+        return parts + self.worked(takes, kinds)
+
+    def worked(self, takes, kinds):
+        """Parts that take just these loops."""
+        parts = []
+        for place, number in enumerate(takes):
+            while number > 0:
+                many = self.pick([many for many in (1, 2, 3) if many <= number])
+                often = number // many if self.chance(2) else self.draw.randrange(1, number // many + 1)
+                one_sum = tuple(often if at == place else 0 for at in range(5))
+                parts.append(self.part(one_sum, ones(*self.pick(kinds[many]))))
+                number -= many * often
+                if len(parts) > 12 and number > 0:
+                    parts.append(("times", tuple(number if at == place else 0 for at in range(5)), ones("k")))
+                    number = 0
+        self.draw.shuffle(parts)
+        return parts
+
+    def part(self, often, parts):
+        """The parts so often, in one of several forms."""
+        if often == plain(1) and len(parts) == 1:
+            return parts[0]
+        if self.chance(4):
+            return ("times", plain(1), [("times", often, parts)])
+        if self.chance(4) and not any(number % 2 for number in often):
+            return ("times", plain(2), [("times", tuple(number // 2 for number in often), parts)])
+        return ("times", often, parts)
+
+
+MARK_FORM = r"(?<![a-z0-9])(?:[kp][234][rl]|[kp]x[234]|[cq][1-4][fb][1-4]|[hf][wxyz]|[kpsob])(?![a-z0-9])"
+OTHER_MARKS = ("k", "s", "o", "b", "kx2", "p3l", "c1f1", "hw", "fw", "hx", "fx", "hy", "fy", "hz", "fz")
+
+
+def changed_text(draw, text):
+    """The text of a pattern with a mark, a number, a size, a row or a turn of it changed; often it is one still."""
+    form, new = draw.choice((
+        (MARK_FORM, draw.choice(OTHER_MARKS)),
+        (r"[0-9]+", str(draw.randrange(6))),
+        (r"(?<=[ 0-9+])[abcd](?![a-z0-9])", draw.choice("abcd")),
+        (r"; row [^;()]*(?=;)", ""),
+        (r"(?: turn)?(?=; row)", draw.choice(("", " turn"))),
+    ))
+    places = list(re.finditer(form, text))
+    if not places:
+        return text
+    place = draw.choice(places)
+    return text[:place.start()] + new + text[place.end():]
+
+
+def read_or_none(text):
+    try:
+        return read(text)
+    except NoPattern:
+        return None
