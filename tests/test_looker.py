@@ -189,7 +189,8 @@ class TestLetBy(Looking):
             (0, plain(3), NOUGHT), (1, NOUGHT, NOUGHT), (2, plain(3), NOUGHT)])
         # A rest that is worked no time names no keeper.
         self.is_told("round; cast 2; row hw, hw; row rest [hw]; row rest [k, fw]; row fw, fw; row b, b", [
-            (0, plain(2), NOUGHT), (1, NOUGHT, NOUGHT), (2, NOUGHT, NOUGHT), (3, NOUGHT, NOUGHT), (4, plain(2), NOUGHT)])
+            (0, plain(2), NOUGHT), (1, NOUGHT, NOUGHT), (2, NOUGHT, NOUGHT), (3, NOUGHT, NOUGHT),
+            (4, plain(2), NOUGHT)])
         # Nor does a part that is worked no time.
         self.is_told("round; cast 1; row hw; row [hw, fw] 0; row fw; row b", [
             (0, plain(1), NOUGHT), (1, NOUGHT, NOUGHT), (2, NOUGHT, NOUGHT), (3, plain(1), NOUGHT)])
@@ -314,8 +315,10 @@ class TestMiscount(Looking):
     def test_behind_a_block_within_a_block(self):
         self.miscount("round; cast 3; row rest [k]; a+1 times (row rest [k]; 2 times (b+1 times (row k, rest [k], o)))",
                       2, "block", 4, 3)
-        self.miscount("round; cast 3; a+1 times (2 times (b+1 times (row rest [k]); row b, rest [k]))", 0, "block", 1, 3)
-        self.miscount("round; cast 3; a+1 times (b+1 times (c+1 times (row rest [k]; row rest [k], o)))", 0, "block", 4, 3)
+        self.miscount("round; cast 3; a+1 times (2 times (b+1 times (row rest [k]); row b, rest [k]))",
+                      0, "block", 1, 3)
+        self.miscount("round; cast 3; a+1 times (b+1 times (c+1 times (row rest [k]; row rest [k], o)))",
+                      0, "block", 4, 3)
 
     def test_nothing_is_asked_behind_a_block_that_is_not_sized(self):
         self.is_told("round; cast 1; 1 times (row kx2); row b, b", [(0, plain(1), NOUGHT), (1, plain(2), NOUGHT)])
@@ -370,8 +373,8 @@ class TestNoSum(Looking):
     def test_the_first_such_row(self):
         self.no_sum("round; cast 1; row k; row [[k] a] a; row rest [o]", 1)
         self.no_sum("round; cast 1; row k; row rest [o]; row [[k] a] a", 1)
-        self.no_sum("round; cast 1; 2 times (row k; 3 times (row k; row k)); 1 times (row k; row rest [o]); row rest [o]",
-                    4)
+        self.no_sum("round; cast 1; 2 times (row k; 3 times (row k; row k)); 1 times (row k; row rest [o]); "
+                    "row rest [o]", 4)
 
     def test_ahead_of_too_many_and_of_miscount(self):
         self.no_sum("round; cast 1; 301 times (row k); row rest [o]", 1)

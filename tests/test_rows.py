@@ -260,7 +260,8 @@ class TestRefused(Rows):
         self.fits("round; cast 3000; row rest [b]", NO_SIZE, 1, 3000)
         self.too_many("round; cast 3001; row rest [b]", NO_SIZE)
         self.fits("round; cast 10; 299 times (row rest [k]); row rest [b]", NO_SIZE, 300, 3000)
-        self.too_many("round; cast 10; row rest [k], o; row k2r, rest [k]; 297 times (row rest [k]); row rest [b]", NO_SIZE)
+        self.too_many("round; cast 10; row rest [k], o; row k2r, rest [k]; 297 times (row rest [k]); row rest [b]",
+                      NO_SIZE)
         self.fits("round; cast 10; 20a+10b+50 times (row [k] 10); row rest [b]", [7, 10, 0, 0], 291, 2910)
         text = "round; cast b; a+1 times (3 times (row rest [k]; row [s] b)); row rest [b]"
         self.fits(text, [8, 54, 0, 0], 55, 2970)
