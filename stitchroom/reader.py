@@ -1,6 +1,7 @@
 """The pattern of a text."""
 
 from stitchroom.errors import NoPattern, NoStitch
+from stitchroom.figures import figures_number
 from stitchroom.marks import stitch
 from stitchroom.patterns import Pattern
 from stitchroom.sums import sum_text
@@ -8,7 +9,6 @@ from stitchroom.sums import sum_text
 MOST_SIGNS = 3000
 MOST_FIGURES = 18
 MOST_DEPTH = 8
-FIGURES = ("0", "1", "2", "3", "4", "5", "6", "7", "8", "9")
 SIZE_PLACES = {"a": 1, "b": 2, "c": 3, "d": 4}
 WORD_ENDS = (" ", ",", ";", "[", "]", "(", ")")
 
@@ -153,7 +153,7 @@ def read_sum(cursor):
     return sum_of_text(cursor.word())
 
 
-# Terms out of order, told twice, of 0, and numbers with noughts ahead all give a sum that has another text.
+# Terms out of order, told twice and of 0 all give a sum that has another text.
 def sum_of_text(text):
     """The sum that has this text; refused with NoPattern where none has."""
     numbers = [0, 0, 0, 0, 0]
@@ -173,6 +173,7 @@ def sum_of_text(text):
 
 def number_of_text(text):
     """The number that is written by one to eighteen figures; refused with NoPattern where it is none."""
-    if not 1 <= len(text) <= MOST_FIGURES or not all([sign in FIGURES for sign in text]):
+    number = figures_number(text, MOST_FIGURES)
+    if number is None:
         raise NoPattern("the text is not that of a number")
-    return int(text)
+    return number

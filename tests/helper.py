@@ -1,5 +1,5 @@
-"""What several test files need: all stitches of point 5, one by one, patterns with their texts, drawn patterns, and a
-working of patterns in plain numbers that is written apart from the program.
+"""What several test files need: all stitches of point 5, one by one, patterns with their texts, drawn patterns and
+rows, and workings of patterns in plain numbers and of rows from the front that are written apart from the program.
 """
 
 import collections
@@ -9,7 +9,7 @@ import random
 import re
 import signal
 
-from stitchroom.errors import NoPattern
+from stitchroom.errors import NoPattern, StitchError
 from stitchroom.patterns import Pattern
 from stitchroom.reader import read
 from stitchroom.stitches import Cross, Fetch, Grow, Keep, Lean, Off, Over, Plain, Slip, Stitch
@@ -43,6 +43,11 @@ def all_stitches():
 
 def all_marks():
     return [mark for kind, given, mark in all_made()]
+
+
+def made(marks):
+    """The stitches of these marks, made without the program's own reading of marks."""
+    return [MADE[mark][0](*MADE[mark][1]) for mark in marks]
 
 
 def state(stitch):
@@ -214,8 +219,10 @@ def sum_of_polynomial(count):
 class NumberWork:
     """Point 14 with numbers in the place of sums, at a choice: told is (row, in hand, on the other needle) for each row
     that went well, as they were ahead of it; fault is (row, place, lies, asked), or None. Where each block is worked
-    really, as often as its sum is worth, works is (row, marks, turn) for each row.
+    really, as often as its sum is worth, works is (row, marks, turn) for each row; where it is listing, too.
     """
+
+    listing = False
 
     def __init__(self, pattern, choice, really=False):
         self.way, self.choice, self.really = pattern.way, choice, really
@@ -271,7 +278,7 @@ class NumberWork:
             raise Unfit(number, "needle", self.hand, takes)
         self.keepers(number, found)
         self.told.append((number, self.hand, self.other))
-        if self.really:
+        if self.really or self.listing:
             middle = marks_of(row[3], self.choice) * often + marks_of(row[4], self.choice) if len(row) == 5 else []
             self.works.append((number, marks_of(row[1], self.choice) + middle, row[2]))
         left = self.hand - found["takes"]
@@ -453,8 +460,181 @@ def changed_text(draw, text):
     return text[:place.start()] + new + text[place.end():]
 
 
+def refusal_of(asked, *given):
+    """The class and the fields of a refusal, or None."""
+    try:
+        asked(*given)
+    except StitchError as refusal:
+        return (type(refusal), vars(refusal))
+    return None
+
+
+def spoil_web(web):
+    """Changes every list of a web."""
+    rows, lying, kept, off = web
+    for row in rows:
+        row.append("spoilt")
+    for keeper, names in kept:
+        names.reverse()
+        names.append("spoilt")
+    rows.reverse()
+    rows.append([])
+    kept.append("spoilt")
+    for names in (lying, off):
+        names.insert(0, "spoilt")
+
+
 def read_or_none(text):
     try:
         return read(text)
     except NoPattern:
         return None
+
+
+def seen_loops(mark, piece, back):
+    """The new loops of a stitch over a piece of the cloth, all from the right as seen from the front; back tells
+    whether the stitch is worked from the back.
+    """
+    side = 1 if mark[0] in "kc" else -1
+    seen = -side if back else side
+    if mark == "o":
+        return [((), 0, 0)]
+    if mark[0] in "cq":
+        # The group to which the worker comes first is at the right of the piece, from the back at its left.
+        first, second = int(mark[1]), int(mark[3])
+        cut = second if back else first
+        lift = 1 if mark[2] == "f" else -1
+        return [((name,), seen, -lift) for name in piece[cut:]] + [((name,), seen, lift) for name in piece[:cut]]
+    if mark[1:2] == "x":
+        sides = [side * (1 - place % 2 * 2) for place in range(int(mark[2]))]
+        return [((piece[0],), one_side, 0) for one_side in ([-one for one in sides[::-1]] if back else sides)]
+    if len(mark) == 3:
+        return [(tuple(piece[::-1] if mark[2] == "r" else piece), seen, 0)]
+    return [((piece[0],), seen, 0)]
+
+
+class FrontWork:
+    """Points 18 to 21 from the front, by places: all that lies is one list from the right, and the tips of the needles
+    meet at a place of it. A row from the back is gone through from its last stitch to its first.
+    """
+
+    def __init__(self, way, cast, web=None, names=()):
+        self.way, self.back, self.meet = way, False, 0
+        rows, lying, kept, off = web or ([], [], [], [])
+        picked = [((), 0, 0)] * cast if web is None else [((name,), 1, 0) for name in names]
+        self.rows = [list(row) for row in rows] + [picked]
+        self.lying = [(len(rows), place) for place in range(len(picked))]
+        self.kept, self.off = {keeper: list(put) for keeper, put in kept}, set(off)
+
+    def hand(self):
+        """How many loops lie on the left needle."""
+        return self.meet if self.back else len(self.lying) - self.meet
+
+    def lies_on(self, keeper):
+        return len(self.kept.get(keeper, []))
+
+    def fault(self, marks, turn=False):
+        """What Miscount tells of a row that does not fit: (row, place, choice, lies, asked); else None."""
+        takes = sum(taken_by(mark) for mark in marks)
+        if takes > self.hand() or not turn and takes < self.hand():
+            return (len(self.rows), "needle", [], self.hand(), takes)
+        for keeper in KEEPERS:
+            fetched = marks.count("f" + keeper)
+            if (fetched or "h" + keeper in marks) and fetched != self.lies_on(keeper):
+                return (len(self.rows), keeper, [], self.lies_on(keeper), fetched)
+        return None
+
+    def work(self, marks):
+        """Works a row that fits."""
+        takes = sum(taken_by(mark) for mark in marks)
+        low = self.meet - takes if self.back else self.meet
+        place, given, new = low, [], []
+        before = {keeper: list(names) for keeper, names in self.kept.items()}
+        for keeper in {mark[1] for mark in marks if mark[0] in "hf"}:
+            self.kept[keeper] = []
+        for mark in marks[::-1] if self.back else marks:
+            piece = self.lying[place:place + taken_by(mark)]
+            place += len(piece)
+            if mark == "s":
+                given.extend(piece)
+            elif mark == "b":
+                self.off.update(piece)
+            elif mark[0] == "h":
+                self.kept[mark[1]].extend(piece)
+            elif mark[0] == "f":
+                given.append(before[mark[1]].pop(0))
+            else:
+                for loop in seen_loops(mark, piece, self.back):
+                    given.append((len(self.rows), len(new)))
+                    new.append(loop)
+        self.rows.append(new)
+        self.lying[low:place] = given
+        if self.way == "flat":
+            self.meet = low if self.back else low + len(given)
+            self.back = not self.back
+
+    def web(self):
+        kept = [(keeper, list(self.kept[keeper])) for keeper in KEEPERS if self.lies_on(keeper)]
+        return ([list(row) for row in self.rows], list(self.lying), kept, sorted(self.off))
+
+
+STITCH_KINDS = {
+    "same": ("k", "p", "s"), "new": ("o",), "gone": ("b", "hw", "hx", "hy", "hz"),
+    "lean": tuple(mark for mark in all_marks() if mark[0] in "kp" and mark[-1] in "rl"),
+    "grow": tuple(mark for mark in all_marks() if mark[1:2] == "x" and mark[0] in "kp"),
+    "cross": tuple(mark for mark in all_marks() if mark[0] in "cq"),
+}
+
+
+def drawn_marks(draw, work, turn=False):
+    """A row of stitches that fits what lies in a FrontWork, by marks; with turn it takes some of it."""
+    takes = draw.randrange(work.hand() + 1) if turn else work.hand()
+    kinds = ["same", "same", "lean", "cross", "cross", "cross", "new", "grow", "gone"]
+    if len(work.lying) > 24:
+        kinds = ["same", "lean", "lean", "gone"]
+    marks = []
+    while takes > 0:
+        fit = [mark for mark in STITCH_KINDS[draw.choice(kinds)] if taken_by(mark) <= takes]
+        if fit:
+            marks.append(draw.choice(fit))
+            takes -= taken_by(marks[-1])
+    if draw.randrange(4) == 0:
+        marks.insert(draw.randrange(len(marks) + 1), "o")
+    for keeper in KEEPERS:
+        if "h" + keeper in marks or draw.randrange(3) == 0:
+            for time in range(work.lies_on(keeper)):
+                marks.insert(draw.randrange(len(marks) + 1), "f" + keeper)
+    return marks
+
+
+def drawn_work(draw, rows=8):
+    """Rows that fit one another: a tuple (way, cast, list of tuples (marks, turn))."""
+    way, cast = draw.choice(("flat", "round")), draw.randrange(12)
+    work, drawn = FrontWork(way, cast), []
+    for row in range(draw.randrange(rows)):
+        turn = way == "flat" and draw.randrange(3) == 0
+        marks = drawn_marks(draw, work, turn)
+        work.work(marks)
+        drawn.append((marks, turn))
+    return (way, cast, drawn)
+
+
+def ending_marks(draw, work):
+    """A row that casts off all that lies on the left needle, or puts some of it on keepers that have nothing."""
+    free = ["b"] + ["h" + keeper for keeper in KEEPERS if not work.lies_on(keeper)]
+    return [draw.choice(free) for loop in range(work.hand())]
+
+
+def names_of(web):
+    return [(row, place) for row, loops in enumerate(web[0]) for place in range(len(loops))]
+
+
+def kept_names(web):
+    return [name for keeper, names in web[2] for name in names]
+
+
+def drawn_names(draw, web):
+    """Some names that may be picked up, in any order."""
+    kept = kept_names(web)
+    names = [name for name in names_of(web) if name not in kept]
+    return draw.sample(names, draw.randrange(min(9, len(names)) + 1))

@@ -213,7 +213,8 @@ class TestForms(Checked):
             for node in nodes(path, ast.ExceptHandler):
                 taken = node.type.elts if isinstance(node.type, ast.Tuple) else [node.type]
                 for name in taken:
-                    self.check(isinstance(name, ast.Name) and name.id not in ("Exception", "TypeError"), "L19", path, node)
+                    named = isinstance(name, ast.Name) and name.id not in ("Exception", "TypeError")
+                    self.check(named, "L19", path, node)
             for node in nodes(path, ast.Raise):
                 self.check(isinstance(node.exc, ast.Call), "L19", path, node)
 

@@ -5,7 +5,7 @@ import itertools
 import random
 import unittest
 
-from stitchroom.errors import Miscount, NoSum, StitchError, TooMany
+from stitchroom.errors import Miscount, NoSum, TooMany
 from stitchroom.looker import look
 from stitchroom.patterns import Pattern
 from stitchroom.reader import read
@@ -14,22 +14,13 @@ from stitchroom.stitches import Plain, Stitch
 from stitchroom.writer import shown
 from tests.helper import (
     NOUGHT, Drawn, NumberWork, all_marks, at_once, changed_text, marked, marks_of, number_of, one, ones, plain,
-    read_or_none,
+    read_or_none, refusal_of,
 )
 
 A = (0, 1, 0, 0, 0)
 NO_SIZE = [0, 0, 0, 0]
 GREAT = 10 ** 18 - 1
 CHOICES = [NO_SIZE, [1, 0, 0, 0], [0, 1, 2, 0], [2, 1, 0, 3], [1, 1, 1, 1], [4, 5, 3, 2]]
-
-
-def refusal_of(asked, *given):
-    """The class and the fields of a refusal, or None."""
-    try:
-        asked(*given)
-    except StitchError as refusal:
-        return (type(refusal), vars(refusal))
-    return None
 
 
 def parts_of(text):
