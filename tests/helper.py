@@ -1,5 +1,6 @@
-"""What several test files need: all stitches of point 5, one by one, patterns with their texts, drawn patterns and
-rows, and workings of patterns in plain numbers and of rows from the front that are written apart from the program.
+"""What several test files need: all stitches of point 5, one by one, patterns with their texts, drawn patterns, rows
+and webs; and workings of points that are written apart from the program: of patterns in plain numbers, of rows from the
+front, of what comes undone, of rows and webs turned about, and of the moves of rows.
 """
 
 import collections
@@ -10,6 +11,7 @@ import re
 import signal
 
 from stitchroom.errors import NoPattern, StitchError
+from stitchroom.needles import Needles
 from stitchroom.patterns import Pattern
 from stitchroom.reader import read
 from stitchroom.stitches import Cross, Fetch, Grow, Keep, Lean, Off, Over, Plain, Slip, Stitch
@@ -607,9 +609,9 @@ def drawn_marks(draw, work, turn=False):
     return marks
 
 
-def drawn_work(draw, rows=8):
+def drawn_work(draw, rows=8, way=None):
     """Rows that fit one another: a tuple (way, cast, list of tuples (marks, turn))."""
-    way, cast = draw.choice(("flat", "round")), draw.randrange(12)
+    way, cast = way or draw.choice(("flat", "round")), draw.randrange(12)
     work, drawn = FrontWork(way, cast), []
     for row in range(draw.randrange(rows)):
         turn = way == "flat" and draw.randrange(3) == 0
@@ -638,3 +640,154 @@ def drawn_names(draw, web):
     kept = kept_names(web)
     names = [name for name in names_of(web) if name not in kept]
     return draw.sample(names, draw.randrange(min(9, len(names)) + 1))
+
+
+def changed_rows(draw, marks):
+    """The row with a stitch more, one less, another one, a fetch more or less, and a loop kept."""
+    more, keeper = draw.choice(("k", "s", "b", "k2r", "c1f1", "hw", "fz")), draw.choice(KEEPERS)
+    place = draw.randrange(len(marks) + 1)
+    found = [marks[:place] + [more] + marks[place:], marks[:place] + marks[place + 1:],
+             marks[:place] + [more] + marks[place + 1:], marks[:place] + ["f" + keeper] + marks[place:]]
+    for old, new in (("f", []), ("k", ["h" + keeper]), ("s", ["h" + keeper])):
+        places = [place for place, mark in enumerate(marks) if mark[0] == old and (old == "f" or mark == old)]
+        if places:
+            place = draw.choice(places)
+            found.append(marks[:place] + new + marks[place + 1:])
+    return found + [found[0] + ["f" + keeper]]
+
+
+def drawn_webs(seed, many):
+    """Drawn webs of needles, each with what draws; some are ended, and begun again at some of their loops."""
+    draw = random.Random(seed)
+    for time in range(many):
+        way, cast, rows = drawn_work(draw)
+        needles, work = Needles(way, cast), FrontWork(way, cast)
+        for marks, turn in rows:
+            needles.work(made(marks), turn)
+            work.work(marks)
+        if draw.randrange(3) == 0:
+            while work.lying:
+                marks = ending_marks(draw, work)
+                needles.work(made(marks))
+                work.work(marks)
+            names = drawn_names(draw, work.web())
+            needles, work = Needles(way, 0, needles.web(), names), FrontWork(way, 0, work.web(), names)
+            for row in range(draw.randrange(4)):
+                marks = drawn_marks(draw, work)
+                needles.work(made(marks))
+                work.work(marks)
+        yield draw, needles.web()
+
+
+def parents_of(web, name):
+    return web[0][name[0]][name[1]][0]
+
+
+def held_names(web):
+    return web[1] + kept_names(web) + web[3]
+
+
+def plain_drawers(web):
+    return {name: [other for other in names_of(web) if name in parents_of(web, other)] for name in names_of(web)}
+
+
+def plain_fallen(web, names):
+    """Point 23, over and over until nothing more comes undone."""
+    above, held, fallen = plain_drawers(web), set(held_names(web)), set(names)
+    while True:
+        more = {name for name in above if name not in held and all(other in fallen for other in above[name])} - fallen
+        if not more:
+            return fallen
+        fallen |= more
+
+
+OTHER_SIGN = {"k": "p", "p": "k", "c": "q", "q": "c", "r": "l", "l": "r", "f": "b", "b": "f"}
+
+
+def turned_mark(mark):
+    """The mark of the turned stitch, by the last sentences of point 6."""
+    if mark in ("k", "p") or mark[-1] in "rl" or mark in ("kx3", "px3"):
+        return OTHER_SIGN[mark[0]] + mark[1:]
+    if mark[0] in "cq":
+        return OTHER_SIGN[mark[0]] + mark[:0:-1]
+    return mark
+
+
+def mirrored_mark(mark):
+    """The mark of the mirrored stitch, likewise."""
+    if mark[-1] in "rl":
+        return mark[:2] + OTHER_SIGN[mark[2]]
+    if mark in ("kx2", "kx4", "px2", "px4"):
+        return OTHER_SIGN[mark[0]] + mark[1:]
+    if mark[0] in "cq":
+        return mark[0] + mark[3] + OTHER_SIGN[mark[2]] + mark[1]
+    return mark
+
+
+def front_marks(cast, rows):
+    """Flat rows, tuples (marks, turn) that fit, told from the front: what is not taken is slipped where it lies."""
+    work, front = FrontWork("flat", cast), []
+    for marks, turn in rows:
+        takes, lies = sum(taken_by(mark) for mark in marks), len(work.lying)
+        low = work.meet - takes if work.back else work.meet
+        middle = [turned_mark(mark) for mark in marks[::-1]] if work.back else marks
+        front.append(["s"] * low + middle + ["s"] * (lies - low - takes))
+        work.work(marks)
+    return front
+
+
+def round_web(cast, rows):
+    """The web of rows of stitches worked round."""
+    needles = Needles("round", cast)
+    for row in rows:
+        needles.work(row)
+    return needles.web()
+
+
+def plain_mirrored(web):
+    """Point 30, by a table of all names."""
+    rows, lying, kept, off = web
+    new = {(row, place): (row, len(loops) - 1 - place) for row, loops in enumerate(rows) for place in range(len(loops))}
+    found = [[None] * len(loops) for loops in rows]
+    for (row, place), (same, there) in new.items():
+        parents, side, lift = rows[row][place]
+        found[same][there] = (tuple(new[name] for name in parents), side, lift)
+    return (found, [new[name] for name in lying][::-1],
+            [(keeper, [new[name] for name in names][::-1]) for keeper, names in kept],
+            sorted(new[name] for name in off))
+
+
+def plain_moves(cast, rows):
+    """Point 33 by marks: the moves of rows that fit."""
+    moves = [("cast", cast)]
+    for marks in rows:
+        x = y = 0
+        for mark in marks:
+            moves.extend(moves_of_mark(mark, x, y))
+            x, y = x + taken_by(mark), y + given_by(mark)
+        moves.append(("end",))
+    return moves
+
+
+def moves_of_mark(mark, x, y):
+    side = 1 if mark[0] in "kc" else -1
+    if mark in ("s", "o", "b"):
+        return {"s": [("lay", x, y)], "o": [("over", y)], "b": [("off", x)]}[mark]
+    if mark[0] in "hf":
+        return [("keep", x, mark[1])] if mark[0] == "h" else [("fetch", mark[1], y)]
+    if len(mark) == 1:
+        return [("lay", x, y), ("draw", y, side, 0)]
+    if mark[1] == "x":
+        sides = (side, -side, side, -side)[:int(mark[2])]
+        pairs = [[("lay", x, y + at), ("draw", y + at, sides[at], 0)] for at in range(len(sides))]
+        return list(itertools.chain(*pairs))
+    if mark[0] in "kp":
+        hooks = list(range(x, x + int(mark[1])))
+        return [("lay", hook, y) for hook in (hooks[::-1] if mark[2] == "r" else hooks)] + [("draw", y, side, 0)]
+    first, second, lift = int(mark[1]), int(mark[3]), 1 if mark[2] == "f" else -1
+    moves = []
+    for at in range(second):
+        moves += [("lay", x + first + at, y + at), ("draw", y + at, side, -lift)]
+    for at in range(first):
+        moves += [("lay", x + at, y + second + at), ("draw", y + second + at, side, lift)]
+    return moves

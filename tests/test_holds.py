@@ -2,7 +2,6 @@
 
 import collections
 import copy
-import random
 import unittest
 
 from stitchroom.errors import NotLying
@@ -10,7 +9,7 @@ from stitchroom.holds import drawers, edge, undone, way_up
 from stitchroom.needles import Needles, knitted
 from stitchroom.reader import read
 from tests.helper import (
-    FrontWork, drawn_marks, drawn_names, drawn_work, ending_marks, kept_names, made, names_of, spoil_web,
+    drawn_webs, held_names, kept_names, made, names_of, parents_of, plain_drawers, plain_fallen, spoil_web,
 )
 
 CAST_ON = ((), 0, 0)
@@ -43,28 +42,6 @@ def tree_web(lying, off=()):
     return (rows, list(lying), [("w", kept)] if kept else [], list(off))
 
 
-def parents_of(web, name):
-    return web[0][name[0]][name[1]][0]
-
-
-def held_names(web):
-    return web[1] + kept_names(web) + web[3]
-
-
-def plain_drawers(web):
-    return {name: [other for other in names_of(web) if name in parents_of(web, other)] for name in names_of(web)}
-
-
-def plain_fallen(web, names):
-    """Point 23, over and over until nothing more comes undone."""
-    above, held, fallen = plain_drawers(web), set(held_names(web)), set(names)
-    while True:
-        more = {name for name in above if name not in held and all(other in fallen for other in above[name])} - fallen
-        if not more:
-            return fallen
-        fallen |= more
-
-
 def safe_names(web, names):
     """Downward from all that is held and not let fall: what these are drawn through, and so on."""
     safe = set(held_names(web)) - set(names)
@@ -83,29 +60,6 @@ def plain_way(above, held, fallen, name):
     if name in held:
         return [name]
     return [name] + plain_way(above, held, fallen, min(other for other in above[name] if other not in fallen))
-
-
-def drawn_webs(seed, many):
-    """Drawn webs of needles, each with what draws; some are ended, and begun again at some of their loops."""
-    draw = random.Random(seed)
-    for time in range(many):
-        way, cast, rows = drawn_work(draw)
-        needles, work = Needles(way, cast), FrontWork(way, cast)
-        for marks, turn in rows:
-            needles.work(made(marks), turn)
-            work.work(marks)
-        if draw.randrange(3) == 0:
-            while work.lying:
-                marks = ending_marks(draw, work)
-                needles.work(made(marks))
-                work.work(marks)
-            names = drawn_names(draw, work.web())
-            needles, work = Needles(way, 0, needles.web(), names), FrontWork(way, 0, work.web(), names)
-            for row in range(draw.randrange(4)):
-                marks = drawn_marks(draw, work)
-                needles.work(made(marks))
-                work.work(marks)
-        yield draw, needles.web()
 
 
 class TestDrawers(unittest.TestCase):

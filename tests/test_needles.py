@@ -10,7 +10,8 @@ from stitchroom.errors import Miscount
 from stitchroom.needles import Needles
 from stitchroom.stitches import KEEPERS
 from tests.helper import (
-    FrontWork, all_marks, drawn_marks, drawn_names, drawn_work, ending_marks, given_by, made, spoil_web, taken_by,
+    FrontWork, all_marks, changed_rows, drawn_marks, drawn_names, drawn_work, ending_marks, given_by, made, spoil_web,
+    taken_by,
 )
 
 CAST_ON = ((), 0, 0)
@@ -306,7 +307,7 @@ class TestDrawnRows(Needled):
             way, cast, rows = drawn_work(draw)
             needles, work = Needles(way, cast), FrontWork(way, cast)
             for marks, turn in rows:
-                for changed in self.changed(draw, marks):
+                for changed in changed_rows(draw, marks):
                     fault = work.fault(changed, turn)
                     if fault is not None:
                         places[fault[1], fault[3] < fault[4], way, turn] += 1
@@ -321,19 +322,6 @@ class TestDrawnRows(Needled):
                 if (place, below) != ("needle", False):
                     self.assertGreater(places[place, below, "flat", True], 5, place)
         self.assertEqual(places["needle", False, "flat", True], 0)
-
-    def changed(self, draw, marks):
-        """The row with a stitch more, one less, another one, a fetch more or less, and a loop kept."""
-        more, keeper = draw.choice(("k", "s", "b", "k2r", "c1f1", "hw", "fz")), draw.choice(KEEPERS)
-        place = draw.randrange(len(marks) + 1)
-        found = [marks[:place] + [more] + marks[place:], marks[:place] + marks[place + 1:],
-                 marks[:place] + [more] + marks[place + 1:], marks[:place] + ["f" + keeper] + marks[place:]]
-        for old, new in (("f", []), ("k", ["h" + keeper]), ("s", ["h" + keeper])):
-            places = [place for place, mark in enumerate(marks) if mark[0] == old and (old == "f" or mark == old)]
-            if places:
-                place = draw.choice(places)
-                found.append(marks[:place] + new + marks[place + 1:])
-        return found + [found[0] + ["f" + keeper]]
 
 
 class TestRefused(Needled):
